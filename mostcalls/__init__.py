@@ -1,0 +1,1 @@
+"""Mostcalls: the most calls, work and time that one request can cause, exactly."""
