@@ -1,0 +1,71 @@
+"""The names, arguments and places that the interface of the document lists."""
+
+import importlib
+import inspect
+import unittest
+
+FUNCTIONS = {
+    'printing': {'format_system': '(system)'},
+    'texts': {'parse_system': '(text)'},
+    'patterns': {'all_patterns': '(system, entry)'},
+    'machine': {'play': '(system, pattern)'},
+}
+# Per class: how it is built (None: by the package alone), its properties, its methods, its operators.
+CLASSES = {
+    'policies': {'Policy': (
+        "(name, limit, *, tries=1, pauses=None, early=None, lossy=False, ending=('go',))",
+        ('name', 'limit', 'tries', 'pauses', 'early', 'lossy', 'ending'), {'changed': '(self, **fields)'}, ('__eq__',))},
+    'systems': {'System': (
+        '(policies, services)', (), {
+            'policies': '(self)', 'services': '(self)', 'policy': '(self, name)', 'span': '(self, name)',
+            'callees': '(self, name)', 'with_policy': '(self, policy)', 'with_block': '(self, name, block)',
+            'with_service': '(self, name, block)'},
+        ('__eq__', '__getitem__', '__contains__', '__len__', '__iter__'))},
+    'patterns': {'Pattern': (
+        '(entry, choices)', ('entry',), {'choices': '(self)', '__call__': '(self, path)'},
+        ('__eq__', '__contains__', '__len__', '__iter__', '__or__'))},
+    'machine': {'Run': (
+        None, ('how', 'end', 'last', 'faults'), {
+            'spans': '(self)', 'met': '(self)', 'measured': '(self, measure)', 'unwanted': '(self, path)',
+            'worked': '(self)'},
+        ('__eq__', '__len__', '__iter__'))},
+    'rows': {'Rows': ('(answers, fails, stops)', ('answers', 'fails', 'stops'), {'greatest': '(self)'}, ('__eq__',))},
+}
+
+
+def module(name):
+    return importlib.import_module('mostcalls.' + name)
+
+
+class InterfaceTest(unittest.TestCase):
+    def test_functions(self):
+        for file, functions in FUNCTIONS.items():
+            for name, arguments in functions.items():
+                with self.subTest(name):
+                    function = getattr(module(file), name)
+                    self.assertTrue(inspect.isfunction(function))
+                    self.assertEqual(function.__module__, 'mostcalls.' + file)
+                    self.assertEqual(str(inspect.signature(function)), arguments)
+
+    def test_classes(self):
+        for file, classes in CLASSES.items():
+            for name, (arguments, properties, methods, operators) in classes.items():
+                with self.subTest(name):
+                    found = getattr(module(file), name)
+                    self.assertTrue(inspect.isclass(found))
+                    self.assertEqual(found.__module__, 'mostcalls.' + file)
+                    if arguments is not None:
+                        self.assertEqual(str(inspect.signature(found)), arguments)
+                    for word in properties:
+                        self.assertIsInstance(vars(found)[word], property)
+                    for word, told in methods.items():
+                        self.assertEqual(str(inspect.signature(vars(found)[word])), told)
+                    for word in operators + ('__init__',):
+                        self.assertTrue(inspect.isfunction(vars(found)[word]))
+
+    def test_all_patterns_is_a_generator(self):
+        self.assertTrue(inspect.isgeneratorfunction(module('patterns').all_patterns))
+
+
+if __name__ == '__main__':
+    unittest.main()
