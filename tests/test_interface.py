@@ -9,6 +9,10 @@ FUNCTIONS = {
     'texts': {'parse_system': '(text)'},
     'patterns': {'all_patterns': '(system, entry)'},
     'machine': {'play': '(system, pattern)'},
+    'tables': {'empty_table': '()', 'risk_table': '()', 'run_table': '(lo, hi, weight=0)'},
+    'tries': {'call_table': '(policy, callee, cost=0)', 'want_table': '(table)'},
+    'counts': {'greatest_calls': '(system, entry)'},
+    'papers': {'bound_paper': '(system, entry, measure)', 'check_bound': '(system, entry, measure, paper)'},
 }
 # Per class: how it is built (None: by the package alone), its properties, its methods, its operators.
 CLASSES = {
@@ -30,6 +34,13 @@ CLASSES = {
             'worked': '(self)'},
         ('__eq__', '__len__', '__iter__'))},
     'rows': {'Rows': ('(answers, fails, stops)', ('answers', 'fails', 'stops'), {'greatest': '(self)'}, ('__eq__',))},
+    'tables': {'Table': ('(rows)', (), {'__call__': '(self, left=None)'}, ('__rshift__', '__or__', '__and__'))},
+    'counts': {'Counts': (
+        '(system, measure)', ('measure',), {
+            'table': '(self, name)', 'ends': '(self, name, how)', 'number_at': '(self, name, how, tick)',
+            'greatest': '(self, name)', 'best': '(self, name, faults=None)',
+            'best_at': '(self, name, how, tick, faults=None)'},
+        ())},
 }
 
 
