@@ -294,11 +294,10 @@ class LargeTest(Case):
             for policy, parts in ((Policy('p', 20, tries=3, pauses=(0, 8), lossy=True, ending=ending), 5),
                                   (Policy('p', 20, tries=3, early=7, ending=ending), 10)):
                 system = self.system(policy, parts)
-                for measure in (('calls', 'a'), ('work', 'a'), ('last',), ('calls', 'a', 6)):
-                    counts = Counts(system, measure)
-                    self.assertIsNotNone(counts.greatest('f'))
+                for measure in (('calls', 'a'), ('last',), ('calls', 'a', 6)):
+                    self.assertIsNotNone(Counts(system, measure).greatest('f'))
                 small = self.system(policy, 2, 3)
-                for measure in (('calls', 'a'), ('work', 'a'), ('nobody', 'a'), ('last',)):
+                for measure in (('work', 'a'), ('nobody', 'a'), ('last',)):
                     counts = Counts(small, measure)
                     run = play(small, counts.best('c'))
                     self.assertEqual(run.measured(measure), counts.greatest('c'))

@@ -12,6 +12,13 @@ FUNCTIONS = {
     'tables': {'empty_table': '()', 'risk_table': '()', 'run_table': '(lo, hi, weight=0)'},
     'tries': {'call_table': '(policy, callee, cost=0)', 'want_table': '(table)'},
     'counts': {'greatest_calls': '(system, entry)'},
+    'times': {'answer_times': '(system, entry)', 'fail_times': '(system, entry)', 'last_tick': '(system, entry)',
+              'slowest': '(system, entry)', 'latest': '(system, entry)', 'hopeless': '(system)',
+              'inversions': '(system, entry, measure, policy)'},
+    'longrun': {'greatest_mean': '(lane, measure)', 'ring_paper': '(lane, measure)',
+                'check_ring': '(lane, measure, paper)', 'ring_patterns': '(lane, measure, paper)'},
+    'lines': {'fate': '(line, burst, outage=0)', 'feeds': '(line, burst, outage=0)', 'least_burst': '(line, most)',
+              'least_outage': '(line, most)', 'greatest_gap': '(line, burst)'},
     'papers': {'bound_paper': '(system, entry, measure)', 'check_bound': '(system, entry, measure, paper)'},
 }
 # Per class: how it is built (None: by the package alone), its properties, its methods, its operators.
@@ -41,6 +48,17 @@ CLASSES = {
             'greatest': '(self, name)', 'best': '(self, name, faults=None)',
             'best_at': '(self, name, how, tick, faults=None)'},
         ())},
+    'lanes': {'Lane': (
+        '(system, entry, *, gap=(0, 0), budget=None, breaker=None)', ('system', 'entry', 'gap', 'budget', 'breaker'), {
+            'first': '(self)', 'steps': '(self, state)', 'after': '(self, state, step)',
+            'weight': '(self, measure, step)', 'request': '(self, state, pattern, gap)'},
+        ('__contains__', '__len__', '__iter__'))},
+    'lines': {'Line': (
+        "(stations, *, gap, limit, tries=1, pause=1, ending='go')",
+        ('stations', 'gap', 'limit', 'tries', 'pause', 'ending'), {
+            'first': '(self, burst=0, outage=0)', 'next': '(self, state, is_down=False)',
+            'run': '(self, burst, ticks, outage=0)'},
+        ('__eq__',))},
 }
 
 
@@ -76,6 +94,7 @@ class InterfaceTest(unittest.TestCase):
 
     def test_all_patterns_is_a_generator(self):
         self.assertTrue(inspect.isgeneratorfunction(module('patterns').all_patterns))
+        self.assertTrue(inspect.isgeneratorfunction(module('lines').Line.run))
 
 
 if __name__ == '__main__':

@@ -132,7 +132,7 @@ class LanguageTest(unittest.TestCase):
 
     def test_statements_and_expressions(self):
         barred = (ast.Global, ast.AsyncFunctionDef, ast.AsyncFor, ast.AsyncWith, ast.Await, ast.GeneratorExp, ast.Div,
-                  ast.MatMult, ast.Try, ast.AnnAssign)
+                  ast.MatMult, ast.AnnAssign)
         for file in ALL:
             for node in file.nodes:
                 if isinstance(node, barred) or isinstance(node, ast.Constant) and isinstance(node.value, (float, complex)):
@@ -250,13 +250,29 @@ class LanguageTest(unittest.TestCase):
                             if isinstance(node, ast.Attribute) and not isinstance(node.ctx, ast.Load):
                                 self.found('L5', file, node, function.name)
 
+    def test_caught_errors(self):
+        """only own errors are caught, each by its name."""
+        own = {told.name for file in ALL if file.name == 'errors' for told in file.classes}
+        for file in ALL:
+            for node in file.nodes:
+                if isinstance(node, ast.Try):
+                    self.assertFalse(node.finalbody)
+                    for handler in node.handlers:
+                        if not isinstance(handler.type, ast.Name) or handler.type.id not in own:
+                            self.found('L19', file, handler)
+
     def test_generators(self):
-        """only all_patterns is one, and no other function has its name."""
+        """only these are generators, and no other functions, and no variables that are called, have their names."""
         found = [function.name for file in ALL for function in file.functions
                  if any(isinstance(node, (ast.Yield, ast.YieldFrom)) for node in ast.walk(function))]
-        self.assertEqual(found, ['all_patterns'])
+        self.assertEqual(sorted(found), ['all_patterns', 'run'])
         names = [function.name for file in ALL for function in file.functions]
-        self.assertEqual(names.count('all_patterns'), 1)
+        for name in found:
+            self.assertEqual(names.count(name), 1)
+            for file in ALL:
+                for node in file.nodes:
+                    if isinstance(node, ast.Call) and isinstance(node.func, ast.Name) and node.func.id == name:
+                        self.found('L23', file, node, name)
 
 
 if __name__ == '__main__':
