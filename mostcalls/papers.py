@@ -3,7 +3,7 @@
 from mostcalls.checks import is_count, is_integer
 from mostcalls.errors import InvalidMeasure, UnknownName
 from mostcalls.measures import is_measure
-from mostcalls.reckoning import Reckoning, block_source, manner_of
+from mostcalls.reckoning import Blocks, Reckoning, manner_of
 from mostcalls.telling import rows_of, value_of, values_of, ways_of
 from mostcalls.ways import Ways
 
@@ -42,12 +42,12 @@ class Book:
     """The rows that a paper tells: a dict from tuples (service, left, wanted) to the three rows."""
 
     def __init__(self, system, measure, told):
-        self.manner = manner_of(measure)
         self.told = told
         self.lacks_rows = False
         self.known = {}
-        callees = {name: Told(self, name) for name in system}
-        self.blocks = {name: block_source(self.manner, system, measure, name, callees) for name in system}
+        blocks = Blocks(system, measure, {name: Told(self, name) for name in system})
+        self.manner = blocks.manner
+        self.by_name = {name: blocks.of_service(name) for name in system}
 
     def ways(self, service, left, wanted):
         """The told rows as ways; none if they are not told."""
@@ -62,7 +62,7 @@ class Book:
 
     def holds(self, service, left, wanted):
         """Whether the rows that come of the block, with the told rows of the called services, are told, or less."""
-        ways = self.blocks[service].ways(left, wanted)
+        ways = self.by_name[service].ways(left, wanted)
         rows = self.told[(service, left, wanted)]
         if self.lacks_rows:
             return False

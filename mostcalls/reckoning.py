@@ -25,42 +25,59 @@ class Reckoning:
     """All services of a system, by their names."""
 
     def __init__(self, system, measure):
-        self.manner = manner_of(measure)
         self.by_name = {}
+        blocks = Blocks(system, measure, self.by_name)
+        self.manner = blocks.manner
         for name in system:
-            self.by_name[name] = Service(block_source(self.manner, system, measure, name, self.by_name))
+            self.by_name[name] = Service(blocks.of_service(name))
 
     def of_request(self, name):
         """The ways of a request at this entry, which has no deadline and is never unwanted."""
         return self.by_name[name].ways(None, None)
 
 
+class Blocks:
+    """The ways of blocks, with those of the called services by name."""
+
+    def __init__(self, system, measure, callees):
+        self.world = system
+        self.counted = measure
+        self.manner = manner_of(measure)
+        self.callees = callees
+        # Calls of the same service by the same policy have the same ways.
+        self.calls = {}
+
+    def of_service(self, name):
+        """The ways of a service's block."""
+        return self._block(name, self.world[name])
+
+    def _block(self, service, block):
+        """The ways of a block of a service."""
+        return Chain(self.manner, [self._part(service, part) for part in block])
+
+    def _part(self, service, part):
+        """The ways of a part of a service's block."""
+        if part[0] == "run":
+            is_counted = self.counted[0] in ("work", "nobody") and self.counted[1] == service
+            return Work(self.manner, part[1], part[2], 1 if is_counted else 0)
+        if part[0] == "risk":
+            return Risk(self.manner)
+        if is_call(part):
+            call = self._call(part[1], part[2])
+            return Want(self.manner, call) if part[0] == "want" else call
+        blocks = [self._block(service, block) for block in part[1:]]
+        return Maybe(self.manner, blocks[0]) if part[0] == "maybe" else Both(self.manner, blocks[0], blocks[1])
+
+    def _call(self, callee, policy):
+        """The ways of a call."""
+        key = (callee, policy)
+        if key not in self.calls:
+            cost = 1 if self.counted[:2] == ("calls", callee) else 0
+            self.calls[key] = Call(self.manner, self.world.policy(policy), self.callees[callee], cost)
+        return self.calls[key]
+
+
 def manner_of(measure):
     """How the numbers of a right measure are put together."""
     most_faults = measure[2] if len(measure) > 2 else None
     return Manner(most_faults, measure[0] == "last", measure[0] == "nobody")
-
-
-def block_source(manner, system, measure, service, callees):
-    """The ways of a service's block, with those of the called services, by name."""
-    return _block(manner, system, measure, service, callees, system[service])
-
-
-def _block(manner, system, measure, service, callees, block):
-    """The ways of a block of a service."""
-    return Chain(manner, [_part(manner, system, measure, service, callees, part) for part in block])
-
-
-def _part(manner, system, measure, service, callees, part):
-    """The ways of a part of a service's block."""
-    if part[0] == "run":
-        is_counted = measure[0] in ("work", "nobody") and measure[1] == service
-        return Work(manner, part[1], part[2], 1 if is_counted else 0)
-    if part[0] == "risk":
-        return Risk(manner)
-    if is_call(part):
-        is_counted = measure[0] == "calls" and measure[1] == part[1]
-        call = Call(manner, system.policy(part[2]), callees[part[1]], 1 if is_counted else 0)
-        return Want(manner, call) if part[0] == "want" else call
-    blocks = [_block(manner, system, measure, service, callees, block) for block in part[1:]]
-    return Maybe(manner, blocks[0]) if part[0] == "maybe" else Both(manner, blocks[0], blocks[1])

@@ -42,7 +42,7 @@ class Net:
         while came_by[place] is not None:
             place, step = came_by[place]
             steps.append(step)
-        return tuple(reversed(steps))
+        return tuple(steps[::-1])
 
 
 def best_ring(net):

@@ -250,6 +250,15 @@ class LanguageTest(unittest.TestCase):
                             if isinstance(node, ast.Attribute) and not isinstance(node.ctx, ast.Load):
                                 self.found('L5', file, node, function.name)
 
+    def test_reversed(self):
+        """as a class has items, it goes over what plainly is a list."""
+        for file in ALL:
+            for node in file.nodes:
+                if isinstance(node, ast.Call) and isinstance(node.func, ast.Name) and node.func.id == 'reversed':
+                    told = node.args[0]
+                    if not (isinstance(told, ast.Call) and getattr(told.func, 'id', '') in ('list', 'tuple', 'sorted', 'range')):
+                        self.found('L5', file, node)
+
     def test_caught_errors(self):
         """only own errors are caught, each by its name."""
         own = {told.name for file in ALL if file.name == 'errors' for told in file.classes}
