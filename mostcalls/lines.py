@@ -92,11 +92,11 @@ class Line:
     def _begun(self, burst, outage):
         """What tick 0 tells."""
         nothing = (self._gap - 1, (), tuple([((), ()) for _ in self._stations]))
-        return Moment(self, nothing).told(burst, outage > 0)
+        return Moment(self, nothing).happen(burst, outage > 0)
 
     def _behind(self, state, is_down):
         """What the tick behind a state tells."""
-        return Moment(self, state).told(0, is_down)
+        return Moment(self, state).happen(0, is_down)
 
     def _is_state(self, value):
         """Whether any value has the form of a state."""

@@ -20,7 +20,7 @@ class Moment:
         self.many_given_up = 0
         self.many_refused = 0
 
-    def told(self, burst, is_down):
+    def happen(self, burst, is_down):
         """Does everything that happens at the tick; tells the state behind it, and the numbers of tries."""
         self._leave()
         beginning = self._count_down()

@@ -43,7 +43,7 @@ class Blocks:
         self.world = system
         self.counted = measure
         self.manner = manner_of(measure)
-        self.callees = callees
+        self.called = callees
         # Calls of the same service by the same policy have the same ways.
         self.calls = {}
 
@@ -73,7 +73,7 @@ class Blocks:
         key = (callee, policy)
         if key not in self.calls:
             cost = 1 if self.counted[:2] == ("calls", callee) else 0
-            self.calls[key] = Call(self.manner, self.world.policy(policy), self.callees[callee], cost)
+            self.calls[key] = Call(self.manner, self.world.policy(policy), self.called[callee], cost)
         return self.calls[key]
 
 

@@ -250,6 +250,13 @@ class LanguageTest(unittest.TestCase):
                             if isinstance(node, ast.Attribute) and not isinstance(node.ctx, ast.Load):
                                 self.found('L5', file, node, function.name)
 
+    def test_no_name_is_a_method_and_an_attribute(self):
+        found, stored = set(), set()
+        for told in [told for file in ALL for told in file.classes]:
+            found |= {function.name for function in methods(told)}
+            stored |= assigned(told)
+        self.assertFalse(found & stored)
+
     def test_reversed(self):
         """as a class has items, it goes over what plainly is a list."""
         for file in ALL:

@@ -259,6 +259,10 @@ def slow_fate(line, burst, outage):
     return None, None
 
 
+def built(stations, gap, limit, tries, pause, ending):
+    return Line(stations, gap=gap, limit=limit, tries=tries, pause=pause, ending=ending)
+
+
 class FateTest(Case):
     def test_of_the_document(self):
         told = [fate(EXAMPLE, 0), fate(EXAMPLE, 1), feeds(EXAMPLE, 1), least_burst(EXAMPLE, 5), greatest_gap(EXAMPLE, 1)]
@@ -306,6 +310,27 @@ class FateTest(Case):
                 gaps = [(gap, Line(line.stations, gap=gap, limit=line.limit, tries=line.tries, pause=line.pause,
                                    ending=line.ending), 2, 0) for gap in range(20, 0, -1)]
                 self.check(greatest_gap, line, 2, gaps)
+
+    def test_just_the_ticks_of_one_round_count(self):
+        for fields, burst, outage, wanted in (
+                ((((1, 3, 1), (2, 3, 1)), 3, 11, 2, 1, 'stop'), 10, 0, ('stays', 6, 3)),
+                ((((1, 3, 1),), 3, 9, 3, 4, 'stop'), 10, 0, ('stays', 8, 3)),
+                ((((1, 2, 1), (3, 2, 2)), 2, 7, 3, 3, 'go'), 0, 2, ('stays', 4, 2)),
+                ((((2, 2, 1), (1, 3, 1), (1, 2, 4)), 3, 10, 3, 2, 'stop'), 10, 2, ('stays', 30, 9)),
+                ((((1, 3, 2), (1, 3, 2), (1, 2, 1)), 3, 8, 1, 3, 'stop'), 1, 5, ('stays', 11, 3))):
+            line = built(*fields)
+            self.same(fate(line, burst, outage), wanted)
+            self.assertEqual((wanted, feeds(line, burst, outage)), slow_fate(line, burst, outage))
+
+    def test_bounds_of_what_is_tried(self):
+        line = built(((1, 2, 4),), 1, 10, 3, 4, 'stop')
+        self.assertEqual([least_burst(line, most) for most in (0, 1, 4, 5, 6)], [None, None, None, 5, 5])
+        line = built(((3, 2, 1), (1, 2, 3), (1, 3, 4)), 5, 8, 2, 3, 'go')
+        self.assertEqual([least_outage(line, most) for most in (0, 1, 4, 5, 6)], [None, None, None, 5, 5])
+        self.assertEqual(greatest_gap(built(((3, 1, 4), (3, 3, 1)), 2, 11, 3, 3, 'stop'), 2), 1)
+        line = built(((1, 1, 0), (1, 2, 4), (3, 2, 2)), 1, 9, 1, 4, 'stop')
+        self.assertEqual([feeds(line, 0), feeds(line, 0, 0), feeds(line, 0, 1)], [False, False, True])
+        self.assertEqual([fate(line, 0), fate(line, 0, 0)], [('out', 0), ('out', 0)])
 
     def check(self, call, line, argument, rows):
         for number, other, burst, outage in rows:

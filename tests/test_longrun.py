@@ -258,7 +258,13 @@ class PaperTest(Case):
                 wrong = paper[:place] + (paper[place][:-1] + (value,),) + paper[place + 1:]
                 self.assertIsNone(check_ring(lane, CALLS, wrong) if not self.is_same(value, paper[place][-1]) else None)
         self.assertIsNone(check_ring(lane, CALLS, ((Awkward(), Awkward()),) + paper[1:]))
-        self.assertIsNone(check_ring(lane, CALLS, ((True, 1),) + paper[1:]))
+        for mean in ((True, 3), (4, True), (Awkward(), 3), (4, Awkward()), ('4', 3), (4, None), (4, 0), (1, 0), (4, -3)):
+            self.assertIsNone(check_ring(lane, CALLS, (mean,) + paper[1:]))
+        one = Lane(RISKY.with_policy(Policy('r', 3)), 'e')
+        paper = ring_paper(one, CALLS)
+        self.same(check_ring(one, CALLS, paper), (1, 1))
+        for mean in ((True, 1), (1, True), (1, 0), (-1, -1)):
+            self.assertIsNone(check_ring(one, CALLS, (mean,) + paper[1:]))
 
     def is_same(self, value, other):
         return value.__class__ is int and other.__class__ is int and value == other
