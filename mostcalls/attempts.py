@@ -15,9 +15,10 @@ class Attempt:
         self.left = left
         self.wanted = wanted
         self.known = {}
-        ways = callee.ways(left, wanted)
-        self.answered = {tick: number for tick, number in ways.ended.items() if tick <= policy.limit}
-        self.failed = {tick: number for tick, number in ways.failed.items() if tick <= policy.limit}
+        # What comes of the handler run while its try is not given up.
+        self.plain = callee.ways(left, wanted)
+        self.answered = {tick: number for tick, number in self.plain.ended.items() if tick <= policy.limit}
+        self.failed = {tick: number for tick, number in self.plain.failed.items() if tick <= policy.limit}
 
     def given_up(self, tick):
         """The number of all ways to be given up at a tick: all that the handler run can still cause counts."""
@@ -40,8 +41,14 @@ class Attempt:
         return told_ticks({tick: self.given_up(tick) for tick in range(most + 1)})
 
     def _given_up(self, tick):
+        number = self._still_caused(self.plain, tick)
+        if len(number) == 0 or not self.manner.minds_wanted:
+            return number
+        return self._still_caused(self.callee.ways(self.left, self._wanted_until(tick)), tick)
+
+    def _still_caused(self, ways, tick):
+        """The number of all these ways of the handler run for which its try can be given up at a tick."""
         manner = self.manner
-        ways = self.callee.ways(self.left, self._wanted_until(tick))
         # The tick at which the handler run is stopped, or None.
         halt = tick + self.terms.ending[1] if self.terms.ending[0] == "stop" else self.left
         found = Found(manner)
@@ -58,8 +65,6 @@ class Attempt:
 
     def _wanted_until(self, tick):
         """The tick from which the handler run is unwanted if its try is given up at this one."""
-        if not self.manner.minds_wanted:
-            return None
         return tick if self.wanted is None else min(tick, self.wanted)
 
 

@@ -4,6 +4,8 @@ import random
 
 from mostcalls.machine import play
 from mostcalls.patterns import all_patterns
+from mostcalls.policies import Policy
+from mostcalls.systems import System
 from samples import some_system
 
 
@@ -26,6 +28,21 @@ def small_systems(first, last, most=1500):
             runs = all_runs(system, entry, most)
             if runs is not None:
                 yield seed, system, entry, runs
+
+
+def crafted_systems():
+    """small systems with policies of all kinds."""
+    ways_to_try = ({}, {'tries': 2}, {'tries': 2, 'pauses': (1,)}, {'tries': 2, 'early': 1}, {'tries': 3, 'early': 1})
+    number = 0
+    for ending in (('go',), ('deadline',), ('stop', 0), ('stop', 1)):
+        for lossy in (False, True):
+            for fields in ways_to_try:
+                number += 1
+                inner = Policy('p', 1 + number % 2, ending=ending, lossy=lossy, **fields)
+                outer = Policy('q', 1 + number % 3, ending=('go',) if number % 4 else ('stop', 1))
+                block = (('run', 1, 3),) if number % 2 or lossy else (('run', 0, 2), ('risk',))
+                middle = (('both', (('want', 'a', 'p'),), (('run', 0, 1),)),) if number % 3 == 0 else (('call', 'a', 'p'),)
+                yield System([inner, outer], [('a', block), ('b', middle), ('c', (('want', 'b', 'q'),))])
 
 
 def measures_of(system, seed=0):

@@ -1,6 +1,6 @@
 import unittest
 
-from brute import greatest, greatest_by_tick, measures_of, small_systems
+from brute import all_runs, crafted_systems, greatest, greatest_by_tick, measures_of, small_systems
 from helpers import VALUES, Case
 from mostcalls.counts import Counts, greatest_calls
 from mostcalls.errors import InvalidMeasure, InvalidNumber, UnknownName
@@ -94,6 +94,17 @@ class BruteForceTest(Case):
                 with self.subTest((seed, entry, measure)):
                     self.check(system, entry, runs, measure)
         self.assertGreater(done, 80)
+
+    def test_crafted_systems(self):
+        done = 0
+        for system in crafted_systems():
+            for entry in 'bc':
+                runs = all_runs(system, entry, 3000)
+                if runs is not None:
+                    done += 1
+                    for measure in (('last',), ('calls', 'a', 1), ('work', 'a'), ('work', 'a', 2), ('nobody', 'a', 2)):
+                        self.check(system, entry, runs, measure)
+        self.assertGreater(done, 60)
 
     def test_tables_tell_the_same(self):
         for seed in range(30):
@@ -233,6 +244,12 @@ class ValuesTest(Case):
         self.assertEqual(Counts(EXAMPLE, ('calls', 'a', 3)).number_at('b', 'failed', 9), (None, None, None, 3))
         self.assertIsNone(Counts(EXAMPLE, ('calls', 'a', 3)).best_at('b', 'failed', 9, 2))
         self.assertEqual(len(play(EXAMPLE, Counts(EXAMPLE, ('calls', 'a', 3)).best_at('b', 'failed', 9, 3))), 4)
+
+    def test_rows_without_an_end(self):
+        for measure in (('calls', 'a'), ('calls', 'a', 0), ('work', 'a', 3)):
+            rows = Counts(EXAMPLE, measure).table('a')(1)
+            self.assertEqual((rows.answers, rows.fails, sorted(rows.stops)), ({}, {}, [0, 1]))
+            self.assertIsNone(rows.greatest())
 
     def test_names_of_arguments(self):
         counts = self.by_faults

@@ -69,6 +69,13 @@ class ExampleTest(Case):
         self.assertEqual(told[2][:4], ((1, 0), (2, 0), (3, 1), (4, 2)))
         self.assertEqual(dict(told[None]), {tick: 0 for tick in range(1, 10)})
 
+    def test_rows_for_ticks_at_which_no_try_can_be_given_up_are_not_needed(self):
+        for lossy, wanted in (('', [None, 0, 1]), ('lossy ', [None, 0, 1, 2, 3, 4, 5])):
+            system = parse_system(f'policy p limit 5 tries 1 {lossy}go\nservice a\n  run 1 2\nend\nservice b\n  call a p\nend')
+            paper = bound_paper(system, 'b', ('nobody', 'a'))
+            self.assertEqual([row[2] for row in paper if row[0] == 'a'], wanted)
+            self.same(check_bound(system, 'b', ('nobody', 'a'), paper), 0)
+
     def test_names_of_arguments(self):
         paper = bound_paper(measure=CALLS, system=SYSTEM, entry='b')
         self.assertEqual(paper, bound_paper(SYSTEM, 'b', CALLS))
@@ -115,6 +122,17 @@ class ErrorsTest(Case):
                       b[:2] + (0,) + b[3:], b[:2] + (2,) + b[3:]):
             self.assertIsNone(check_bound(SYSTEM, 'b', CALLS, (a, wrong)))
             self.assertIsNone(check_bound(SYSTEM, 'b', CALLS, (a, b, wrong)))
+
+    def test_ticks_ascend(self):
+        a, b = bound_paper(SYSTEM, 'b', CALLS)
+        for column in (3, 5):
+            told = b[column]
+            for place in range(len(told)):
+                twice = told[:place] + told[place:place + 1] + told[place:]
+                self.assertIsNone(check_bound(SYSTEM, 'b', CALLS, (a, b[:column] + (twice,) + b[column + 1:])))
+                if place:
+                    turned = told[:place - 1] + (told[place], told[place - 1]) + told[place + 1:]
+                    self.assertIsNone(check_bound(SYSTEM, 'b', CALLS, (a, b[:column] + (turned,) + b[column + 1:])))
 
     def test_other_tuples(self):
         measure = ('calls', 'a', 1)
