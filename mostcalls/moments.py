@@ -65,20 +65,20 @@ class Moment:
 
     def _forget(self, who):
         """The entry of a try that is given up leaves the line, or stays for nobody."""
-        rows = [[row for row in rows if row[1] != who] for rows in self.inside]
-        queues = [[other for other in queue if other != who] for queue in self.queues]
-        coming = [[other for other in row if other != who] for row in self.coming]
-        if self.line.ending == "go":
-            rows = [[(left, self._unless(other, who)) for left, other in inside] for inside in self.inside]
-            queues = [[self._unless(other, who) for other in queue] for queue in self.queues]
-            coming = [[self._unless(other, who) for other in row] for row in self.coming]
-        self.inside = rows
-        self.queues = queues
-        self.coming = coming
+        for place in range(len(self.inside)):
+            ticks = [left for left, other in self.inside[place] if self._stays(other, who)]
+            entries = self._without(who, [other for _, other in self.inside[place]])
+            self.inside[place] = list(zip(ticks, entries))
+            self.queues[place] = self._without(who, self.queues[place])
+            self.coming[place] = self._without(who, self.coming[place])
 
-    def _unless(self, other, who):
-        """The other one, nobody in place of this one."""
-        return None if other == who else other
+    def _stays(self, other, who):
+        """Whether an entry stays on the line as the try of this request is given up."""
+        return other != who or self.line.ending == "go"
+
+    def _without(self, who, others):
+        """Those who stay of some entries, nobody in place of this one."""
+        return [None if other == who else other for other in others if self._stays(other, who)]
 
     def _fail(self, who):
         """A try has failed, or was given up: the next one comes later, or the request has failed."""
