@@ -34,7 +34,7 @@ class Moment:
         last = len(self.inside) - 1
         for place in range(last, -1, -1):
             stays = []
-            for left, who in self.inside[place]:
+            for left, who in list(self.inside[place]):
                 if left > 1:
                     stays.append((left - 1, who))
                 elif place < last:

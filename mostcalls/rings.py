@@ -32,7 +32,7 @@ class Net:
         left = [self.first_place]
         while place not in came_by:
             found = []
-            for ahead in left:
+            for ahead in list(left):
                 for behind, _, step in self.moves[ahead]:
                     if behind not in came_by:
                         came_by[behind] = (ahead, step)
@@ -108,7 +108,7 @@ def _ring_from(moves, begin):
     place = moves[begin][0]
     while place != begin:
         ring.append((place, moves[place][2]))
-        total += moves[place][1]
+        total = total + moves[place][1]
         place = moves[place][0]
     shared = gcd(total, len(ring))
     return ((total // shared, len(ring) // shared), ring)

@@ -67,6 +67,56 @@ def assigned(told):
             and isinstance(node.ctx, ast.Store) and isinstance(node.value, ast.Name) and node.value.id == 'self'}
 
 
+class Aliases:
+    """which names and fields of a function can tell the same list, as one is assigned the other one."""
+
+    def __init__(self, function):
+        self.above = {}
+        for node in ast.walk(function):
+            if isinstance(node, ast.Assign):
+                for target in node.targets:
+                    for told in walked_by(node.value):
+                        self.above[self.of(target)] = self.of(told)
+
+    def of(self, node):
+        text = node if isinstance(node, str) else ast.unparse(node)
+        while self.above.get(text, text) != text:
+            text = self.above[text]
+        return text
+
+    def of_all(self, nodes):
+        return {self.of(node) for node in nodes}
+
+
+def walked_by(node):
+    """the names, fields and items that can be what an expression tells; none if it tells something new."""
+    if isinstance(node, (ast.Name, ast.Attribute, ast.Subscript)):
+        return [] if isinstance(getattr(node, 'slice', None), ast.Slice) else [node]
+    if isinstance(node, ast.IfExp):
+        return walked_by(node.body) + walked_by(node.orelse)
+    if isinstance(node, ast.BoolOp):
+        return [told for value in node.values for told in walked_by(value)]
+    if isinstance(node, ast.Call):
+        if getattr(node.func, 'id', '') in ('enumerate', 'zip', 'reversed'):
+            return [told for value in node.args for told in walked_by(value)]
+        if getattr(node.func, 'attr', '') in ('items', 'keys', 'values'):
+            return walked_by(node.func.value)
+    return []
+
+
+CHANGING = set('append clear extend insert pop remove reverse setdefault update add discard'.split())
+
+
+def changed_by(node):
+    """what a statement or call changes in place."""
+    if isinstance(node, ast.Call) and isinstance(node.func, ast.Attribute) and node.func.attr in CHANGING:
+        return [node.func.value]
+    if isinstance(node, ast.AugAssign):
+        return [node.target.value] if isinstance(node.target, ast.Subscript) else [node.target]
+    targets = node.targets if isinstance(node, (ast.Assign, ast.Delete)) else []
+    return [target.value for target in targets if isinstance(target, ast.Subscript)]
+
+
 class LanguageTest(unittest.TestCase):
     def found(self, rule, file, node, text=''):
         self.fail(f'{rule}: {file.name}.py, line {getattr(node, "lineno", node)}: {text}')
@@ -265,6 +315,31 @@ class LanguageTest(unittest.TestCase):
                     told = node.args[0]
                     if not (isinstance(told, ast.Call) and getattr(told.func, 'id', '') in ('list', 'tuple', 'sorted', 'range')):
                         self.found('L5', file, node)
+
+    def test_loops_do_not_change_what_they_walk(self):
+        """nothing that a loop changes can be what it walks, also under another name that is assigned in the function."""
+        for file in ALL:
+            for function in file.functions:
+                alias = Aliases(function)
+                for loop in [node for node in ast.walk(function) if isinstance(node, ast.For)]:
+                    walked = alias.of_all(walked_by(loop.iter))
+                    for node in [node for row in loop.body for node in ast.walk(row)]:
+                        for changed in changed_by(node):
+                            if alias.of(changed) in walked:
+                                self.found('L23', file, node, ast.unparse(changed))
+
+    def test_what_is_put_into_a_list_is_not_the_list(self):
+        """behind += stands a literal, a new list, a call, or a sum of such."""
+        def is_new(node):
+            if isinstance(node, ast.BinOp):
+                return is_new(node.left) and is_new(node.right)
+            return isinstance(node, (ast.Constant, ast.List, ast.ListComp, ast.Call))
+        for file in ALL:
+            for node in file.nodes:
+                if isinstance(node, ast.AugAssign) and not is_new(node.value):
+                    self.found('L23', file, node, ast.unparse(node))
+                if isinstance(node, ast.Call) and getattr(node.func, 'attr', '') in ('extend', 'update'):
+                    self.assertTrue(all(is_new(told) for told in node.args), (file.name, node.lineno))
 
     def test_caught_errors(self):
         """only own errors are caught, each by its name."""
