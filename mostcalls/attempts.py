@@ -86,8 +86,8 @@ class Call(Source):
         rows = [self._right(row, left) for row in rows]
         return Ways(rows[0], rows[1], rows[2])
 
-    def attempt(self, tick, left, wanted):
-        """The try that begins at a tick of the call."""
+    def attempt(self, index, tick, left, wanted):
+        """The try with an index, which begins at a tick of the call; here all tries have the same ways."""
         limit = self.terms.limit
         ticks = None
         if self.terms.ending[0] == "deadline":
@@ -106,7 +106,7 @@ class Call(Source):
             found = Found(self.manner)
             for tick, number in begins.items():
                 if left is None or tick <= left:
-                    attempt = self.attempt(tick, left, wanted)
+                    attempt = self.attempt(index, tick, left, wanted)
                     last = None if left is None else left - tick
                     number = raised(number, self.cost)
                     ended.put_behind(number, tick, attempt.answered, index)
@@ -152,7 +152,8 @@ class EarlyTries:
         ended, failed, stopped = {}, {}, {}
         for tick in range(self.end_by + 1):
             if tick in self.begins:
-                self.attempts.append(self.call.attempt(tick, self.left, self.wanted))
+                index = len(self.attempts)
+                self.attempts.append(self.call.attempt(index, tick, self.left, self.wanted))
                 self.over_before.append(NO_NUMBER)
             indexes = list(range(len(self.attempts)))
             over = [self._over_at(index, tick) for index in indexes]

@@ -5,9 +5,11 @@ is this one, and the trace tells choices of a way that reaches it. Where faults 
 number without a rung stands for no way.
 
 A trace is None, or a tuple (ahead, index, inner): ahead is a trace from the same place, inner the trace of what
-stands under this index; without an index, inner is the choice at the place itself.
+stands under this index, with HERE one more trace from the same place; without an index, inner is the choice at the
+place itself.
 """
 
+HERE = -1
 NO_NUMBER = ()
 NOTHING_YET = ((0, 0, None),)
 
@@ -139,6 +141,6 @@ def choices_of(trace):
             if index is None:
                 choices[path] = inner
             elif inner is not None:
-                left.append((path + (index,), inner))
+                left.append((path if index == HERE else path + (index,), inner))
             rest = ahead
     return choices

@@ -3,6 +3,8 @@
 from mostcalls.checks import is_between, is_name
 from mostcalls.errors import InvalidName, InvalidPolicy
 
+MOST_LIMIT = 20
+MOST_TRIES = 3
 FIELDS = ("limit", "tries", "pauses", "early", "lossy", "ending")
 
 
@@ -86,11 +88,20 @@ class Policy:
         return (self._name, self._limit, self._tries, self._pauses, self._early, self._lossy, self._ending)
 
 
+def accepts(field, value):
+    """Whether a policy accepts a value of a field that is told by itself: its limit, its tries, or its ending."""
+    if field == "limit":
+        return is_between(value, 1, MOST_LIMIT)
+    if field == "tries":
+        return is_between(value, 1, MOST_TRIES)
+    return field == "ending" and _is_ending(value)
+
+
 def _wrong_field(limit, tries, pauses, early, lossy, ending):
     """The first field that is wrong, or None; each is looked at when those ahead of it are right."""
-    if not is_between(limit, 1, 20):
+    if not accepts("limit", limit):
         return "limit"
-    if not is_between(tries, 1, 3):
+    if not accepts("tries", tries):
         return "tries"
     if pauses is not None and not (early is None and _are_pauses(pauses, tries)):
         return "pauses"
@@ -98,7 +109,7 @@ def _wrong_field(limit, tries, pauses, early, lossy, ending):
         return "early"
     if not isinstance(lossy, bool):
         return "lossy"
-    if not _is_ending(ending):
+    if not accepts("ending", ending):
         return "ending"
     return None
 

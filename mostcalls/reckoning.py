@@ -53,9 +53,9 @@ class Blocks:
 
     def _block(self, service, block):
         """The ways of a block of a service."""
-        return Chain(self.manner, [self._part(service, part) for part in block])
+        return Chain(self.manner, [self.of_part(service, part) for part in block])
 
-    def _part(self, service, part):
+    def of_part(self, service, part):
         """The ways of a part of a service's block."""
         if part[0] == "run":
             is_counted = self.counted[0] in ("work", "nobody") and self.counted[1] == service
@@ -63,12 +63,12 @@ class Blocks:
         if part[0] == "risk":
             return Risk(self.manner)
         if is_call(part):
-            call = self._call(part[1], part[2])
+            call = self.of_call(part[1], part[2])
             return Want(self.manner, call) if part[0] == "want" else call
         blocks = [self._block(service, block) for block in part[1:]]
         return Maybe(self.manner, blocks[0]) if part[0] == "maybe" else Both(self.manner, blocks[0], blocks[1])
 
-    def _call(self, callee, policy):
+    def of_call(self, callee, policy):
         """The ways of a call."""
         key = (callee, policy)
         if key not in self.calls:

@@ -86,17 +86,18 @@ class Risk(Source):
 
 
 class Chain(Source):
-    """Parts one behind the other."""
+    """Parts one behind the other; they stand under these indexes, or under their own."""
 
-    def __init__(self, manner, parts):
+    def __init__(self, manner, parts, indexes=None):
         super().__init__(manner, longest_of([part.longest for part in parts], False))
         self.parts = parts
+        self.indexes = list(range(len(parts))) if indexes is None else indexes
 
     def reckoned(self, left, wanted):
         ended = {0: NOTHING_YET}
         failed = Found(self.manner)
         stopped = Found(self.manner)
-        for index, part in enumerate(self.parts):
+        for index, part in zip(self.indexes, self.parts):
             found = Found(self.manner)
             for tick, number in ended.items():
                 if left is None or tick <= left:

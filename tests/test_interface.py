@@ -19,6 +19,10 @@ FUNCTIONS = {
                 'check_ring': '(lane, measure, paper)', 'ring_patterns': '(lane, measure, paper)'},
     'lines': {'fate': '(line, burst, outage=0)', 'feeds': '(line, burst, outage=0)', 'least_burst': '(line, most)',
               'least_outage': '(line, most)', 'greatest_gap': '(line, burst)'},
+    'changes': {'changed_system': '(system, offers, choice)', 'least_change': '(system, offers, wishes)',
+                'change_paper': '(system, offers, wishes)', 'check_change': '(system, offers, wishes, paper)'},
+    'logs': {'log_of': '(run)', 'judged': '(system, entry, log)', 'explained': '(system, entry, log)'},
+    'journals': {'write_journal': '(edits)', 'recover': '(system, text)'},
     'papers': {'bound_paper': '(system, entry, measure)', 'check_bound': '(system, entry, measure, paper)'},
 }
 # Per class: how it is built (None: by the package alone), its properties, its methods, its operators.
@@ -53,6 +57,12 @@ CLASSES = {
             'first': '(self)', 'steps': '(self, state)', 'after': '(self, state, step)',
             'weight': '(self, measure, step)', 'request': '(self, state, pattern, gap)'},
         ('__contains__', '__len__', '__iter__'))},
+    'edits': {'Edits': (
+        '(system)', ('system',), {
+            'set_policy': '(self, policy)', 'set_block': '(self, name, block)', 'undo': '(self)', 'redo': '(self)',
+            'mark': '(self, name)', 'back': '(self, name)', 'deeds': '(self)', 'begin_trial': '(self)',
+            'end_trial': '(self)', 'keep': '(self)', 'trial': '(self)', 'within_trial': '(self, call)'},
+        ('__len__',))},
     'lines': {'Line': (
         "(stations, *, gap, limit, tries=1, pause=1, ending='go')",
         ('stations', 'gap', 'limit', 'tries', 'pause', 'ending'), {

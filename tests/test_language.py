@@ -307,6 +307,18 @@ class LanguageTest(unittest.TestCase):
             stored |= assigned(told)
         self.assertFalse(found & stored)
 
+    def test_exits(self):
+        """the rows of __exit__ only assign what there is, and only ask whether it is None."""
+        allowed = (ast.FunctionDef, ast.arguments, ast.arg, ast.If, ast.Assign, ast.Attribute, ast.Name, ast.Constant,
+                   ast.Compare, ast.Is, ast.IsNot, ast.Load, ast.Store)
+        exits = [(file, function) for file in ALL for function in file.functions if function.name == '__exit__']
+        self.assertEqual(len(exits), 1)
+        for file, function in exits:
+            self.assertEqual(ast.unparse(function.args), 'self, kind, value, trace')
+            for node in ast.walk(function):
+                if not isinstance(node, allowed):
+                    self.found('L6', file, node, ast.dump(node)[:60])
+
     def test_reversed(self):
         """as a class has items, it goes over what plainly is a list."""
         for file in ALL:
@@ -349,7 +361,8 @@ class LanguageTest(unittest.TestCase):
                 if isinstance(node, ast.Try):
                     self.assertFalse(node.finalbody)
                     for handler in node.handlers:
-                        if not isinstance(handler.type, ast.Name) or handler.type.id not in own:
+                        caught = handler.type.elts if isinstance(handler.type, ast.Tuple) else [handler.type]
+                        if not all(isinstance(word, ast.Name) and word.id in own for word in caught):
                             self.found('L19', file, handler)
 
     def test_generators(self):
