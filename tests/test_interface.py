@@ -23,6 +23,10 @@ FUNCTIONS = {
                 'change_paper': '(system, offers, wishes)', 'check_change': '(system, offers, wishes, paper)'},
     'logs': {'log_of': '(run)', 'judged': '(system, entry, log)', 'explained': '(system, entry, log)'},
     'journals': {'write_journal': '(edits)', 'recover': '(system, text)'},
+    'questions': {'ask': '(system, text)'},
+    'dossiers': {'dossier': '(system, entry)', 'check_dossier': '(system, entry, value)'},
+    'values': {'is_value': '(value)', 'write_value': '(value)', 'read_value': '(text)'},
+    'shelves': {'read_shelf': '(system, text)'},
     'papers': {'bound_paper': '(system, entry, measure)', 'check_bound': '(system, entry, measure, paper)'},
 }
 # Per class: how it is built (None: by the package alone), its properties, its methods, its operators.
@@ -62,6 +66,12 @@ CLASSES = {
             'set_policy': '(self, policy)', 'set_block': '(self, name, block)', 'undo': '(self)', 'redo': '(self)',
             'mark': '(self, name)', 'back': '(self, name)', 'deeds': '(self)', 'begin_trial': '(self)',
             'end_trial': '(self)', 'keep': '(self)', 'trial': '(self)', 'within_trial': '(self, call)'},
+        ('__len__',))},
+    'console': {'Console': ('()', (), {'execute': '(self, command)'}, ())},
+    'shelves': {'Shelf': (
+        '(system)', ('system',), {
+            'put': '(self, value)', 'entries': '(self)', 'dossier': '(self, entry)', 'numbers': '(self, entry)',
+            'text': '(self)', 'carried': '(self, system)'},
         ('__len__',))},
     'lines': {'Line': (
         "(stations, *, gap, limit, tries=1, pause=1, ending='go')",

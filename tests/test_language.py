@@ -345,7 +345,8 @@ class LanguageTest(unittest.TestCase):
         def is_new(node):
             if isinstance(node, ast.BinOp):
                 return is_new(node.left) and is_new(node.right)
-            return isinstance(node, (ast.Constant, ast.List, ast.ListComp, ast.Call))
+            is_slice = isinstance(node, ast.Subscript) and isinstance(node.slice, ast.Slice)
+            return is_slice or isinstance(node, (ast.Constant, ast.List, ast.ListComp, ast.Call))
         for file in ALL:
             for node in file.nodes:
                 if isinstance(node, ast.AugAssign) and not is_new(node.value):
