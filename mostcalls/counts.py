@@ -24,6 +24,10 @@ class Counts:
         """The measure."""
         return self._measure
 
+    def reckoned(self):
+        """The reckoning on which the numbers rest."""
+        return self._reckoning
+
     def table(self, name):
         """The table of a service's block."""
         return Table(Recipe(self._reckoning.manner, self._service(name)))

@@ -4,7 +4,7 @@ from mostcalls.checks import is_count, is_integer, is_path
 from mostcalls.counts import Counts
 from mostcalls.errors import InvalidChoice, UnknownName
 from mostcalls.machine import play
-from mostcalls.papers import bound_paper, check_bound
+from mostcalls.papers import check_bound, paper_from
 from mostcalls.patterns import Pattern
 
 LAST = ("last",)
@@ -14,12 +14,8 @@ ANSWER = ("answer",)
 def dossier(system, entry):
     """A dossier of an entry that is right."""
     _check(system, entry)
-    cases = []
-    for measure in _measures(system):
-        counts = Counts(system, measure)
-        paper = bound_paper(system, entry, measure)
-        cases.append((measure, counts.greatest(entry), tuple(counts.best(entry)), paper))
-    return (entry, tuple(cases), _times(system, entry))
+    rows = [Counts(system, measure) for measure in _measures(system)]
+    return (entry, tuple([_case(counts, entry) for counts in rows]), _times(rows[-1], entry))
 
 
 def check_dossier(system, entry, value):
@@ -52,9 +48,14 @@ def _measures(system):
     return [(kind, name) for kind in ("calls", "work", "nobody") for name in system] + [LAST]
 
 
-def _times(system, entry):
-    """The times of a dossier: the least and the longest answer, with choices, or None."""
-    counts = Counts(system, LAST)
+def _case(counts, entry):
+    """The case of a measure."""
+    choices = tuple(counts.best(entry))
+    return (counts.measure, counts.greatest(entry), choices, paper_from(counts.reckoned(), entry))
+
+
+def _times(counts, entry):
+    """The times of a dossier, by the counts of last ticks: the least and the longest answer, with choices, or None."""
     ticks = counts.ends(entry, "answered")
     if len(ticks) == 0:
         return None

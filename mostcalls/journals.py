@@ -52,8 +52,8 @@ def do_deed(edits, text):
 def _line(number, deed):
     """The line of a deed, without its line feed."""
     ahead = f"{number} {deed} "
-    check = sum([place * ord(sign) for place, sign in enumerate(ahead, 1)])
-    return f"{ahead}#{check % WHOLE:04d}"
+    check = sum([place * ord(sign) for place, sign in enumerate(ahead, 1)]) % WHOLE
+    return f"{ahead}#{check:04d}"
 
 
 def _told(deed):

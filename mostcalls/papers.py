@@ -11,7 +11,11 @@ from mostcalls.ways import Ways
 def bound_paper(system, entry, measure):
     """A bound paper that shows the greatest number: all rows on which those of the entry rest."""
     _check(system, entry, measure)
-    reckoning = Reckoning(system, measure)
+    return paper_from(Reckoning(system, measure), entry)
+
+
+def paper_from(reckoning, entry):
+    """The bound paper of an entry that a reckoning, of which nothing else was asked, tells."""
     reckoning.of_request(entry)
     paper = []
     for name, service in reckoning.by_name.items():

@@ -124,12 +124,12 @@ class SightedCall(Call):
 class Sighted:
     """The handler run of a path on which, or below which, spans are told."""
 
-    def __init__(self, search, path, service):
-        self.search = search
-        self.ground = search.ground
+    def __init__(self, sought, path, service):
+        self.sought = sought
+        self.ground = sought.ground
         self.path = path
         self.service = service
-        self.told = search.by_path.get(path)
+        self.told = sought.by_path.get(path)
         self.block = self._block(self.ground.world[service], ())
         self.soonest = self.block.soonest
         self.latest = self.block.latest
@@ -156,7 +156,7 @@ class Sighted:
             _, _, _, end, outcome = self.told
             row = {tick: row[tick] for tick in row if begin + tick == end and how == outcome}
             cost = 1
-        return with_value({tick: raised(row[tick], cost) for tick in row}, self.search.counts[self.path])
+        return with_value({tick: raised(row[tick], cost) for tick in row}, self.sought.counts[self.path])
 
     def _block(self, block, place):
         """The sighting of a block that stands at a place of the service's block."""
@@ -164,13 +164,13 @@ class Sighted:
         soonest, latest = 0, FAR
         done, count = 0, 0
         for index, part in enumerate(block):
-            if self.path + place + (index,) in self.search.counts:
+            if self.path + place + (index,) in self.sought.counts:
                 inner = self._part(part, place + (index,))
                 soonest = max(soonest, inner.soonest - block_span(block[:index], self.ground.terms))
                 latest = min(latest, inner.latest - _least_ticks(block[:index]))
                 sources += [self.ground.chain(self.service, place, block, done, index), inner.source]
                 indexes += [HERE, index]
-                counts += [count, count + self.search.counts[self.path + place + (index,)]]
+                counts += [count, count + self.sought.counts[self.path + place + (index,)]]
                 done, count = index + 1, counts[-1]
         sources.append(self.ground.chain(self.service, place, block, done, len(block)))
         chain = SightedChain(self.ground.manner, sources, indexes + [HERE], counts + [count])
@@ -197,16 +197,16 @@ class Sighted:
         soonest, latest = 0, FAR
         for index in range(terms.tries):
             where = path + (index,)
-            if where in self.search.counts:
-                handler = Sighted(self.search, where, callee)
+            if where in self.sought.counts:
+                handler = Sighted(self.sought, where, callee)
                 sighted[index] = Call(self.ground.manner, terms, handler, 0)
                 soonest = max(soonest, handler.soonest - _most_ticks_ahead(terms, index))
                 latest = min(latest, handler.latest - _least_ticks_ahead(terms, index))
         return SightedCall(self.ground.blocks.of_call(callee, policy), sighted, soonest, latest)
 
 
-class Search:
-    """The spans that are told, at least one."""
+class Sought:
+    """The spans that are looked for, at least one."""
 
     def __init__(self, ground, spans):
         self.ground = ground
@@ -223,7 +223,7 @@ def choices_with(ground, entry, spans):
 
     Each of them has a path of its own, that of a try of its service. If the ground is bare, they are all that it has.
     """
-    ways = Sighted(Search(ground, spans), (), entry).ways(None, FAR)
+    ways = Sighted(Sought(ground, spans), (), entry).ways(None, FAR)
     numbers = list(ways.ended.values()) + list(ways.failed.values())
     return choices_of(numbers[0][0][2]) if len(numbers) > 0 else None
 
