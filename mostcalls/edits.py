@@ -36,7 +36,7 @@ class State:
         return State(self.world, self.undoable, self.redoable, marks, self.done + [("mark", name)])
 
 
-class Attempted:
+class Trial:
     """A trial: the state ahead of it, and the trial around it, or None."""
 
     def __init__(self, ahead, around):
@@ -55,7 +55,7 @@ class History:
 
     def begin_trial(self):
         """Begins a trial within those that are open."""
-        self.innermost = Attempted(self.present, self.innermost)
+        self.innermost = Trial(self.present, self.innermost)
 
     def end_trial(self):
         """Ends the innermost trial; unless it is kept, what was done in it is taken back."""

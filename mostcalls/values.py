@@ -32,7 +32,7 @@ def write_value(value):
         inner = left.pop()
         if isinstance(inner, tuple):
             signs.append("(")
-            left += [")"] + list(inner)[::-1]
+            left += list((")",) + inner[::-1])
         else:
             signs.append(NOTHING if inner is None else str(inner))
     return " ".join(signs)
