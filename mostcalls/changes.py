@@ -26,24 +26,18 @@ def changed_system(system, offers, choice):
 def least_change(system, offers, wishes):
     """A tuple (cost, choice) of the first choice with which all wishes hold, or None."""
     _check(system, offers, wishes)
-    search = Search(system, offers, wishes)
-    for choice in _choices_in_order(offers):
-        if search.row_of(choice) is None:
-            return (_cost_of(offers, choice), choice)
-    return None
+    choice = Search(system, offers, wishes).first_choice()
+    return None if choice is None else (_cost_of(offers, choice), choice)
 
 
 def change_paper(system, offers, wishes):
     """A change paper that is right, None if no choice holds."""
     _check(system, offers, wishes)
     search = Search(system, offers, wishes)
-    rows = []
-    for choice in _choices_in_order(offers):
-        row = search.row_of(choice)
-        if row is None:
-            return (choice, tuple(rows))
-        rows.append(row)
-    return None
+    choice = search.first_choice()
+    if choice is None:
+        return None
+    return (choice, tuple([search.row_of(other) for other in _choices_ahead(offers, choice)]))
 
 
 def check_change(system, offers, wishes, paper):
@@ -52,13 +46,12 @@ def check_change(system, offers, wishes, paper):
     if not isinstance(paper, tuple) or len(paper) != 2 or not _is_choice(offers, paper[0]):
         return None
     choice, rows = paper
-    choices = _choices_in_order(offers)
-    ahead = choices[:choices.index(choice)]
+    ahead = _choices_ahead(offers, choice)
     if not isinstance(rows, tuple) or len(rows) != len(ahead):
         return None
     if not all([_is_right(system, offers, wishes, row, other) for row, other in zip(rows, ahead)]):
         return None
-    return choice if Search(system, offers, wishes).row_of(choice) is None else None
+    return choice if Search(system, offers, wishes).all_hold(choice) else None
 
 
 class Search:
@@ -71,33 +64,50 @@ class Search:
         self.reached = [_policies_reached(system, entry) for _, entry, _ in wishes]
         self.known = {}
 
+    def first_choice(self):
+        """The first choice, in order, with which all wishes hold, or None."""
+        for choice in _choices_in_order(self.offers):
+            if self.all_hold(choice):
+                return choice
+        return None
+
+    def all_hold(self, choice):
+        """Whether all wishes hold with a choice."""
+        changed = _changed_or_none(self.world, self.offers, choice)
+        return changed is not None and self._first_broken(changed, choice) is None
+
     def row_of(self, choice):
-        """The row of a change paper which shows that not all wishes hold with a choice; None if they do."""
+        """The row of a change paper which shows that not all wishes hold with a choice."""
         changed = _changed_or_none(self.world, self.offers, choice)
         if changed is None:
             return (choice, None, None)
-        for index in range(len(self.wishes)):
-            pattern = self._pattern_against(changed, choice, index)
-            if pattern is not None:
-                return (choice, index, pattern)
+        index = self._first_broken(changed, choice)
+        return (choice, index, _pattern_of_greatest(changed, self.wishes[index]))
+
+    def _first_broken(self, changed, choice):
+        """The index of the first wish that does not hold in the system with a choice, None if all do."""
+        for index, wish in enumerate(self.wishes):
+            key = (index, tuple([at for at in choice if self.offers[at][0] in self.reached[index]]))
+            if key not in self.known:
+                self.known[key] = _holds(changed, wish)
+            if not self.known[key]:
+                return index
         return None
 
-    def _pattern_against(self, changed, choice, index):
-        """A pattern that shows more than a wish allows, or None."""
-        key = (index, tuple([at for at in choice if self.offers[at][0] in self.reached[index]]))
-        if key not in self.known:
-            self.known[key] = _exceeding(changed, self.wishes[index])
-        return self.known[key]
 
-
-def _exceeding(system, wish):
-    """A pattern with which a system shows more than a wish allows, or None."""
+def _holds(system, wish):
+    """Whether a wish holds in a system."""
     measure, entry, most = wish
     if measure[0] == "answer":
         ticks = answer_times(system, entry)
-        return slowest(system, entry) if ticks is not None and ticks[1] > most else None
-    counts = Counts(system, measure)
-    return counts.best(entry) if counts.greatest(entry) > most else None
+        return ticks is None or ticks[1] <= most
+    return Counts(system, measure).greatest(entry) <= most
+
+
+def _pattern_of_greatest(system, wish):
+    """A pattern that reaches the greatest number of a wish that does not hold."""
+    measure, entry, _ = wish
+    return slowest(system, entry) if measure[0] == "answer" else Counts(system, measure).best(entry)
 
 
 def _is_right(system, offers, wishes, value, choice):
@@ -163,6 +173,12 @@ def _choices_in_order(offers):
         choices = choices + [choice for choice in longer if _is_choice(offers, choice)]
     rows = sorted([(_cost_of(offers, choice), len(choice), choice) for choice in choices])
     return [choice for _, _, choice in rows]
+
+
+def _choices_ahead(offers, choice):
+    """All choices ahead of one, in order."""
+    choices = _choices_in_order(offers)
+    return choices[:choices.index(choice)]
 
 
 def _cost_of(offers, choice):

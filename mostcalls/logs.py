@@ -4,7 +4,7 @@ from mostcalls.blocks import is_call
 from mostcalls.checks import is_count, is_path
 from mostcalls.errors import UnknownName
 from mostcalls.patterns import Pattern
-from mostcalls.sightings import Ground, choices_with
+from mostcalls.sightings import Ground, can_have, choices_with_just
 
 
 def log_of(run):
@@ -18,13 +18,13 @@ def judged(system, entry, log):
     if not isinstance(log, list):
         return -1
     spans = _leading_spans(system, entry, log)
-    if len(spans) == len(log) and _choices_with_just(system, entry, spans) is not None:
+    if len(spans) == len(log) and _stands(system, entry, spans):
         return None
     ground = Ground(system, False)
     least, most = 0, len(spans)
     while least < most:
         middle = (least + most + 1) // 2
-        if choices_with(ground, entry, spans[:middle]) is not None:
+        if can_have(ground, entry, spans[:middle]):
             least = middle
         else:
             most = middle - 1
@@ -37,16 +37,16 @@ def explained(system, entry, log):
     if not isinstance(log, list):
         return None
     spans = _leading_spans(system, entry, log)
-    if len(spans) < len(log):
+    # Every request has the span of its entry.
+    if len(spans) < len(log) or len(log) == 0:
         return None
-    choices = _choices_with_just(system, entry, spans)
+    choices = choices_with_just(system, entry, spans)
     return None if choices is None else Pattern(entry, choices)
 
 
-def _choices_with_just(system, entry, spans):
-    """Choices of a request that has these spans and no others, or None."""
-    # Every request has the span of its entry.
-    return choices_with(Ground(system, True), entry, spans) if len(spans) > 0 else None
+def _stands(system, entry, spans):
+    """Whether a request can have these spans and no others."""
+    return len(spans) > 0 and can_have(Ground(system, True), entry, spans)
 
 
 def _check(system, entry):

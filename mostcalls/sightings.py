@@ -218,14 +218,21 @@ class Sought:
                 self.counts[path[:length]] = self.counts.get(path[:length], 0) + 1
 
 
-def choices_with(ground, entry, spans):
-    """Choices of a request at an entry that has spans, one at least, None if there is none.
+def can_have(ground, entry, spans):
+    """Whether a request at an entry can have spans, one at least, beside those that the ground allows."""
+    return len(_numbers_with(ground, entry, spans)) > 0
 
-    Each of them has a path of its own, that of a try of its service. If the ground is bare, they are all that it has.
-    """
-    ways = Sighted(Sought(ground, spans), (), entry).ways(None, FAR)
-    numbers = list(ways.ended.values()) + list(ways.failed.values())
+
+def choices_with_just(system, entry, spans):
+    """Choices of a request at an entry that has spans, one at least, and no others, None if there is none."""
+    numbers = _numbers_with(Ground(system, True), entry, spans)
     return choices_of(numbers[0][0][2]) if len(numbers) > 0 else None
+
+
+def _numbers_with(ground, entry, spans):
+    """The numbers of all ways of a request to end that has spans, each on a path of its own to a try of its service."""
+    ways = Sighted(Sought(ground, spans), (), entry).ways(None, FAR)
+    return list(ways.ended.values()) + list(ways.failed.values())
 
 
 def with_value(row, value):

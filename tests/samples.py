@@ -70,6 +70,19 @@ def some_system(seed, services=3, length=3, short=True):
             pass
 
 
+def million_system():
+    """a system in which one request can cause more than a million calls, far too many for a pattern."""
+    slow = Policy('slow', 20, tries=3, early=7, lossy=True)
+    fast = Policy('fast', 9, tries=3, pauses=(3, 8), lossy=True)
+    rows = [('a', (('run', 0, 20), ('risk',), ('maybe', (('run', 0, 20),))))]
+    for name in 'bcdef':
+        last = rows[-1][0]
+        rows.append((name, (
+            ('both', (('want', last, 'slow'),), (('call', last, 'fast'),)), ('run', 0, 20), ('want', last, 'slow'),
+            ('maybe', (('call', last, 'fast'),)), ('call', last, 'slow'), ('want', 'a', 'fast'), ('risk',), ('call', last, 'fast'))))
+    return System([slow, fast], rows)
+
+
 class Drawn(dict):
     """choices that are drawn when they are asked for the first time."""
 

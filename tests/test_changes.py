@@ -12,7 +12,7 @@ from mostcalls.patterns import Pattern
 from mostcalls.policies import Policy
 from mostcalls.systems import System
 from mostcalls.times import answer_times
-from samples import some_system
+from samples import million_system, some_system
 
 
 def some_offers(rng, system, most=5, short=True):
@@ -336,6 +336,16 @@ class LeastChangeTest(Case):
         wishes = [((kind, name), entry, 0) for kind in ('calls', 'work', 'nobody') for name in system]
         wanted = slow_change(system, offers, wishes)
         self.same(least_change(system, offers, wishes), wanted)
+
+    def test_requests_that_are_too_large_for_patterns(self):
+        system = million_system()
+        number = Counts(system, ('calls', 'a')).greatest('f')
+        self.assertGreater(number, 10 ** 6)
+        offers = [('slow', 'tries', 2, 3), ('fast', 'tries', 1, 4), ('slow', 'limit', 9, 1)]
+        wanted = slow_change(system, offers, [(('calls', 'a'), 'f', number // 9)])
+        self.same(least_change(system, offers, [(('calls', 'a'), 'f', number // 9)]), wanted)
+        self.assertGreater(wanted[0], 1)
+        self.assertIsNone(change_paper(system, offers, [(('calls', 'a'), 'f', 10)]))
 
     def test_named_arguments(self):
         offers, wishes = [('p', 'tries', 1, 4)], [(('calls', 'a'), 'b', 3)]

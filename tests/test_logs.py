@@ -10,7 +10,7 @@ from mostcalls.patterns import Pattern
 from mostcalls.policies import Policy
 from mostcalls.systems import System
 from mostcalls.texts import parse_system
-from samples import Drawn, some_system
+from samples import Drawn, million_system, some_system
 
 
 def spans_of(run):
@@ -233,6 +233,17 @@ class ManyCallsTest(Case):
             else:
                 self.assertGreaterEqual(number, at)
                 self.assertIsNone(explained(system, entry, moved))
+
+    def test_requests_that_are_too_large_for_patterns(self):
+        """a few spans of a request that can cause more than a million calls."""
+        system = million_system()
+        for log, wanted in (([((), 'f', 0, 0, 'failed')], 1), ([((), 'f', 0, 20, 'failed')], 1), ([((), 'f', 0, 9999, 'failed')], 0),
+                            ([((0, 0, 0, 1), 'e', 7, 30, 'answered')], 1), ([((0, 0, 0, 1), 'e', 8, 30, 'answered')], 0),
+                            ([((0, 0, 0, 1), 'e', 7, 30, 'stopped')], 0), ([((0, 1, 0, 2), 'e', 11, 30, 'answered')], 1),
+                            ([((0, 1, 0, 2), 'e', 11, 30, 'answered'), ((0, 1, 0, 2, 2, 0), 'd', 11, 40, 'answered')], 2),
+                            ([((0, 1, 0, 2), 'e', 11, 30, 'answered'), ((0, 1, 0, 2, 2, 0), 'd', 31, 40, 'answered')], 1)):
+            self.same(judged(system, 'f', log), wanted)
+            self.assertIsNone(explained(system, 'f', log))
 
     def test_dozens_of_calls_by_hand(self):
         policy = Policy('p', 2, tries=3, ending=('stop', 1), lossy=True)
